@@ -1,0 +1,1 @@
+"""Cotide: the hours of high water on a sea's squares."""
