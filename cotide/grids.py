@@ -43,10 +43,15 @@ def hour_at(chart, square):
     return chart[1][row][column]
 
 
+def told_hours(chart):
+    """The hour of each told square, by the squares, which stand rising."""
+    need_chart(chart)
+    return {(at, column): one for at, row in enumerate(chart[1]) for column, one in enumerate(row) if one >= 0}
+
+
 def told(chart):
     """The squares that have an hour, rising."""
-    need_chart(chart)
-    return [(at, column) for at, row in enumerate(chart[1]) for column, one in enumerate(row) if one >= 0]
+    return list(told_hours(chart))
 
 
 def sides(chart):
@@ -70,10 +75,10 @@ def told_neighbours(chart):
     return beside
 
 
-def led_to(beside, square):
-    """All squares to which the square leads, itself too, rising."""
-    found = [square]
-    seen = {square: True}
+def led_to(beside, first):
+    """All places to which the first leads, itself too, rising."""
+    found = [first]
+    seen = {first: True}
     at = 0
     while at < len(found):
         here = found[at]
@@ -85,15 +90,19 @@ def led_to(beside, square):
     return sorted(found)
 
 
-def seas(chart):
-    """The told squares that hang together, a list for each sea, by their first squares."""
-    beside = told_neighbours(chart)
+def together(beside):
+    """The places that lead to one another, a rising list for each lot, in the order of the places."""
     seen = {}
     found = []
-    for square in told(chart):
-        if square not in seen:
-            sea = led_to(beside, square)
-            for one in sea:
+    for place in beside:
+        if place not in seen:
+            lot = led_to(beside, place)
+            for one in lot:
                 seen[one] = True
-            found.append(sea)
+            found.append(lot)
     return found
+
+
+def seas(chart):
+    """The told squares that hang together, a list for each sea, by their first squares."""
+    return together(told_neighbours(chart))

@@ -1,6 +1,7 @@
 """The form of the package's files, as far as it can be read off them."""
 
 import ast
+import builtins
 import pathlib
 import re
 import unittest
@@ -11,6 +12,14 @@ BARRED_WORDS = re.compile(
     r"\b(type|typing|typing_extensions|enum|Enum|IntEnum|StrEnum|Flag|IntFlag|Generic|Protocol|ABC|ABCMeta|namedtuple"
     r"|NamedTuple|TypedDict|TYPE_CHECKING|abstractmethod)\b|dataclass|overload|contextmanager")
 BARRED_NODES = (ast.Global, ast.AsyncFunctionDef, ast.Await, ast.Div, ast.Import)
+ALLOWED_BUILTINS = set(
+    "len range enumerate zip min max sum abs sorted reversed int str bool bytes list tuple dict set frozenset isinstance"
+    " ord repr any all divmod Exception ValueError TypeError KeyError IndexError LookupError ZeroDivisionError"
+    " ArithmeticError OverflowError RuntimeError NotImplementedError StopIteration NotImplemented iter next".split())
+ALLOWED_METHODS = set(
+    "append clear copy count endswith extend find get index insert isalnum isalpha isdigit islower isspace isupper items"
+    " join keys ljust lower lstrip partition pop remove replace reverse rfind rjust rpartition rsplit rstrip setdefault"
+    " split splitlines startswith strip update upper values zfill bit_length sort add discard".split())
 
 
 def trees():
@@ -28,6 +37,23 @@ def bound_names(node):
     if isinstance(node, ast.Attribute) and not isinstance(node.ctx, ast.Load):
         return [node.attr]
     return []
+
+
+def module_names(tree):
+    """The names bound at module level, each as often as it is."""
+    found = []
+    for node in tree.body:
+        if isinstance(node, ast.ImportFrom):
+            found += [one.asname or one.name for one in node.names]
+        elif isinstance(node, ast.Assign):
+            found += [name for target in node.targets for name in bound_names(target)]
+        else:
+            found += bound_names(node)
+    return found
+
+
+def imported_files(tree):
+    return {node.module.partition(".")[2] for node in tree.body if isinstance(node, ast.ImportFrom)}
 
 
 class Form(unittest.TestCase):
@@ -53,7 +79,8 @@ class Form(unittest.TestCase):
                     self.assertLessEqual(node.end_lineno - node.lineno + 1, 40, (name, node.name))
 
     def test_imports_name_the_file_that_defines(self):
-        defined = {name[:-3]: {bound for node in tree.body for bound in bound_names(node)} for name, tree in trees()}
+        defined = {name[:-3]: {bound for node in tree.body if not isinstance(node, ast.ImportFrom)
+                               for bound in module_names(ast.Module([node], []))} for name, tree in trees()}
         for name, tree in trees():
             for node in ast.walk(tree):
                 if isinstance(node, ast.ImportFrom):
@@ -75,6 +102,60 @@ class Form(unittest.TestCase):
             for node in ast.walk(tree):
                 for bound in bound_names(node):
                     self.assertRegex(bound, r"\A([A-Za-z][A-Za-z0-9_]*|__[a-z]+__)\Z", name)
+
+    def test_builtins_are_those_of_the_list_and_keep_their_meaning(self):
+        for name, tree in trees():
+            for node in ast.walk(tree):
+                if isinstance(node, ast.Name) and node.id in dir(builtins):
+                    self.assertIn(node.id, ALLOWED_BUILTINS, name)
+                    self.assertIsInstance(node.ctx, ast.Load, name)
+                if isinstance(node, (ast.FunctionDef, ast.ClassDef, ast.arg)):
+                    self.assertNotIn(bound_names(node)[0], dir(builtins), name)
+
+    def test_methods_of_values_are_those_of_the_list(self):
+        own = {bound for _, tree in trees() for node in ast.walk(tree) for bound in bound_names(node)}
+        for name, tree in trees():
+            for node in ast.walk(tree):
+                if isinstance(node, ast.Attribute):
+                    self.assertIn(node.attr, ALLOWED_METHODS | own, name)
+
+    def test_names_are_bound_once_at_module_level(self):
+        for name, tree in trees():
+            names = module_names(tree)
+            self.assertEqual(sorted(names), sorted(set(names)), name)
+
+    def test_nothing_within_has_the_name_of_an_import_or_class(self):
+        for name, tree in trees():
+            barred = {one.name for node in tree.body if isinstance(node, ast.ImportFrom) for one in node.names}
+            barred |= {node.name for node in tree.body if isinstance(node, ast.ClassDef)}
+            for top in tree.body:
+                if not isinstance(top, (ast.ImportFrom, ast.ClassDef)):
+                    for node in ast.walk(top):
+                        self.assertEqual(set(bound_names(node)) & barred, set(), name)
+
+    def test_no_two_files_import_from_each_other(self):
+        left = {name[:-3]: imported_files(tree) for name, tree in trees()}
+        while left:
+            free = [name for name in left if not left[name] & set(left)]
+            self.assertNotEqual(free, [], left)
+            for name in free:
+                del left[name]
+
+    def test_is_stands_with_none_true_and_false_alone(self):
+        for name, tree in trees():
+            for node in ast.walk(tree):
+                if isinstance(node, ast.Compare):
+                    for sign, right in zip(node.ops, node.comparators):
+                        if isinstance(sign, (ast.Is, ast.IsNot)):
+                            self.assertIsInstance(right, ast.Constant, name)
+                            self.assertIn(right.value, (None, True, False), name)
+
+    def test_raise_creates_its_error_on_the_spot(self):
+        for name, tree in trees():
+            for node in ast.walk(tree):
+                if isinstance(node, ast.Raise) and node.exc is not None:
+                    self.assertIsInstance(node.exc, ast.Call, name)
+                    self.assertIsInstance(node.exc.func, ast.Name, name)
 
 
 if __name__ == "__main__":

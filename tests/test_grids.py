@@ -1,71 +1,13 @@
 """Charts, squares, sides and seas: [1], [4] and cotide.grids."""
 
 import inspect
-import random
 import unittest
 
 from cotide import grids
 from cotide.errors import BadChart, BadSquare
 from cotide.grids import hour_at, is_chart, seas, sides, size, told
-
-FAR = 10 ** 40 - 1
-# Two seas that touch at a corner only, land, and sea that was not told.
-MIXED = (13, ((0, 1, -1, 12), (-2, 2, -2, 11), (5, -1, 9, -1)))
-ONE = (3, ((0,),))
-BARE = (5, ((-1, -2), (-2, -1)))
-
-
-def blank(high, wide, one=0):
-    return tuple((one,) * wide for _ in range(high))
-
-
-WRONG_CHARTS = (
-    (4, ((0,),)), (2, ((0,),)), (1, ((0,),)), (0, ((0,),)), (-3, ((0,),)), (16, ((0,),)), (17, ((0,),)),
-    (FAR, ((0,),)), (-FAR, ((0,),)), (14, ((-1,),)),
-    (3, ((3,),)), (3, ((0, 1), (2, 3))), (13, ((13,),)), (13, ((-3,),)), (13, ((0, -3),)), (13, ((FAR,),)),
-    (13, ((0,), (-FAR,))), (15, ((15,),)),
-    (13, ((0, 1), (0,))), (13, ((0,), (0, 1))), (13, ((0, 1), (0, 1), ())), (13, ((), (0,))),
-    (13, ()), (13, ((),)), (13, ((), ())),
-    (13, blank(10, 1)), (13, blank(10, 9)), (13, blank(12, 3)),
-    (13, blank(1, 10)), (13, blank(9, 10)), (13, blank(10, 10)), (13, blank(3, 11)),
-    (4, ()), (0, ((9,), ())),
-)
-
-
-def some_chart(chance):
-    clock = chance.choice((3, 5, 7, 9, 11, 13, 15))
-    high, wide = chance.randint(1, 9), chance.randint(1, 9)
-    sign = [-2, -1] * chance.randint(0, clock) + list(range(clock))
-    return (clock, tuple(tuple(chance.choice(sign) for _ in range(wide)) for _ in range(high)))
-
-
-def some_charts():
-    chance = random.Random(4)
-    return [some_chart(chance) for _ in range(150)] + [MIXED, ONE, BARE]
-
-
-def told_by_definition(chart):
-    return [(r, c) for r in range(9) for c in range(9)
-            if r < len(chart[1]) and c < len(chart[1][0]) and chart[1][r][c] >= 0]
-
-
-def sides_by_definition(chart):
-    squares = told_by_definition(chart)
-    return sorted((one, other) for one in squares for other in squares
-                  if (other[0] - one[0], other[1] - one[1]) in ((0, 1), (1, 0)))
-
-
-def seas_by_definition(chart):
-    """Every square takes the least first square of its neighbours until nothing changes."""
-    first = {square: square for square in told_by_definition(chart)}
-    changed = True
-    while changed:
-        changed = False
-        for one, other in sides_by_definition(chart):
-            least = min(first[one], first[other])
-            changed = changed or first[one] != first[other]
-            first[one] = first[other] = least
-    return [[square for square in sorted(first) if first[square] == lead] for lead in sorted(set(first.values()))]
+from samples import BARE, FAR, MIXED, ONE, WRONG_CHARTS, blank, seas_by_definition, sides_by_definition, some_charts
+from samples import told_by_definition
 
 
 class Interface(unittest.TestCase):

@@ -8,19 +8,13 @@ import unittest
 from cotide import hours
 from cotide.errors import BadClock, BadHour
 from cotide.hours import after, is_clock, rounds, step
+from samples import CLOCKS, FAR, steps_by_search
 
-CLOCKS = (3, 5, 7, 9, 11, 13, 15)
-FAR = 10 ** 40 - 1
 WRONG_CLOCKS = (-FAR, -13, -3, -1, 0, 1, 2, 4, 6, 8, 10, 12, 14, 16, 17, 19, 21, 101, 10 ** 39 + 1, FAR, FAR - 1)
 
 
 def wrong_hours(clock):
     return (-FAR, -clock, -2, -1, clock, clock + 1, 2 * clock, FAR)
-
-
-def steps_by_search(clock, one, other):
-    """Every number below half a clock by which the one hour becomes the other."""
-    return [by for by in range(-clock, clock + 1) if 2 * abs(by) < clock and (one + by - other) % clock == 0]
 
 
 class Interface(unittest.TestCase):
