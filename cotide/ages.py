@@ -11,16 +11,43 @@ def even(chart):
     return len(knots(chart)) == 0
 
 
-def lay_sea(clock, hours, beside, first, known):
-    """Add to the known ages those of the first square's sea, from its hour on."""
-    known[first] = hours[first]
+def side_steps(chart):
+    """For each side, rising, the step of its hours."""
+    hours = told_hours(chart)
+    return {(square, other): nearest_step(chart[0], hours[square], hours[other]) for square, other in sides(chart)}
+
+
+def age_on(known, by, here, other):
+    """The age of the other square, going on from here by what stands for the side between them."""
+    if (here, other) in by:
+        return known[here] + by[(here, other)]
+    return known[here] - by[(other, here)]
+
+
+def lay_sea(by, beside, first, known):
+    """Add to the known ages those of the first square's sea, from its own on."""
     waiting = [first]
     while waiting:
         here = waiting.pop()
         for other in beside[here]:
             if other not in known:
-                known[other] = known[here] + nearest_step(clock, hours[here], hours[other])
+                known[other] = age_on(known, by, here, other)
                 waiting.append(other)
+
+
+def gone_on(chart, by):
+    """Rows of ages, the first square of each sea at its hour, that go on by what stands for each side.
+
+    Where two ways lead to a square one of them counts, so what stands for some sides may not hold in the end.
+    """
+    hours = told_hours(chart)
+    beside = told_neighbours(chart)
+    known = {}
+    for sea in seas(chart):
+        known[sea[0]] = hours[sea[0]]
+        lay_sea(by, beside, sea[0], known)
+    high, wide = size(chart)
+    return [[known.get((row, column)) for column in range(wide)] for row in range(high)]
 
 
 def ages(chart):
@@ -28,13 +55,7 @@ def ages(chart):
     many = len(knots(chart))
     if many > 0:
         raise Knotted(many)
-    hours = told_hours(chart)
-    beside = told_neighbours(chart)
-    known = {}
-    for sea in seas(chart):
-        lay_sea(chart[0], hours, beside, sea[0], known)
-    high, wide = size(chart)
-    return [[known.get((row, column)) for column in range(wide)] for row in range(high)]
+    return gone_on(chart, side_steps(chart))
 
 
 def is_age(clock, one, age):
@@ -53,13 +74,15 @@ def are_ages(chart, rows):
     return all([is_age(clock, one, rows[at][column]) for at, row in enumerate(known) for column, one in enumerate(row)])
 
 
+def off_steps(chart, rows):
+    """For each side, rising, how many hours the ages in rows go on beyond the step."""
+    steps = side_steps(chart)
+    return {
+        (square, other): rows[other[0]][other[1]] - rows[square[0]][square[1]] - steps[(square, other)]
+        for square, other in steps
+    }
+
+
 def is_laid(chart, rows):
     """Whether rows are ages that go on at every side by the step of its hours."""
-    if not are_ages(chart, rows):
-        return False
-    hours = told_hours(chart)
-    for square, other in sides(chart):
-        on = rows[other[0]][other[1]] - rows[square[0]][square[1]]
-        if on != nearest_step(chart[0], hours[square], hours[other]):
-            return False
-    return True
+    return are_ages(chart, rows) and not any(list(off_steps(chart, rows).values()))

@@ -4,12 +4,18 @@ from cotide.errors import BadChart, BadSquare
 from cotide.hours import is_clock
 
 MOST_SQUARES = 9
-LOWEST_SIGN = -2
+LAND = -1
+UNTOLD = -2
+
+
+def is_what(clock, one):
+    """Whether a square can be so: an hour of the clock, land, or sea that was not told."""
+    return UNTOLD <= one < clock
 
 
 def is_row(clock, row, wide):
     """Whether a chart of this clock, so many squares wide, can have the row."""
-    return len(row) == wide and all([LOWEST_SIGN <= one < clock for one in row])
+    return len(row) == wide and all([is_what(clock, one) for one in row])
 
 
 def is_chart(chart):

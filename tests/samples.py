@@ -1,5 +1,10 @@
-"""Charts and rings for the tests, and what DOC.md says of them written out once more, by other ways."""
+"""Charts and rings for the tests, and what DOC.md says of them written out once more, by other ways.
 
+What is worked out once is kept here, so no test changes a list that these functions tell.
+"""
+
+import functools
+import math
 import random
 
 CLOCKS = (3, 5, 7, 9, 11, 13, 15)
@@ -87,11 +92,13 @@ def sample_charts():
         WHIRL, BACK_WHIRL, DOUBLE, CALM, NESTED, (15, blank(9, 9, 14)), (3, blank(1, 9)), (3, blank(9, 1))]
 
 
+@functools.cache
 def told_by_definition(chart):
     return [(r, c) for r in range(9) for c in range(9)
             if r < len(chart[1]) and c < len(chart[1][0]) and chart[1][r][c] >= 0]
 
 
+@functools.cache
 def sides_by_definition(chart):
     squares = told_by_definition(chart)
     return sorted((one, other) for one in squares for other in squares
@@ -111,11 +118,13 @@ def firsts_by_definition(places, links):
     return first
 
 
+@functools.cache
 def seas_by_definition(chart):
     first = firsts_by_definition(told_by_definition(chart), sides_by_definition(chart))
     return [[square for square in sorted(first) if first[square] == lead] for lead in sorted(set(first.values()))]
 
 
+@functools.cache
 def steps_by_search(clock, one, other):
     """Every number below half a clock by which the one hour becomes the other."""
     return [by for by in range(-clock, clock + 1) if 2 * abs(by) < clock and (one + by - other) % clock == 0]
@@ -154,6 +163,7 @@ def corners_by_definition(chart):
     return [(r, c) for r in range(len(chart[1]) - 1) for c in range(len(chart[1][0]) - 1)]
 
 
+@functools.cache
 def eyes_by_definition(chart):
     """Corners all round the rim too stand for the outside: none of the squares beyond it is told."""
     side = {frozenset(pair) for pair in sides_by_definition(chart)}
@@ -239,3 +249,132 @@ def sample_rings(chart, chance):
     about = rings_about(chart)
     some = chance.sample(about, min(6, len(about))) + walked_rings(chart, chance)
     return some + [ring[::-1] for ring in some] + [ring + ring for ring in some]
+
+
+def drawn_chart(chance, high, wide, clock, land=0.1, untold=0.1):
+    """A chart of drawn hours, with so much land and sea that was not told."""
+    return (clock, tuple(tuple(-1 if chance.random() < land else -2 if chance.random() < untold
+                               else chance.randrange(clock) for _ in range(wide)) for _ in range(high)))
+
+
+def large_charts():
+    """Charts of nine by nine: even and knotted, with land, islands and squares that were not told."""
+    chance = random.Random(21)
+    found = [drawn_chart(chance, 9, 9, clock, land, untold) for clock in CLOCKS
+             for land, untold in ((0, 0), (0.1, 0), (0, 0.1), (0.15, 0.15), (0.3, 0.1), (0.1, 0.5))]
+    for clock in CLOCKS:
+        numbers = known_ages(chance, clock, 9, 9)
+        for gaps in (0, 0.2, 0.6):
+            found.append((clock, tuple(tuple(chance.choice((-1, -2)) if chance.random() < gaps else one % clock
+                                             for one in row) for row in numbers)))
+    return found + [whirling(9, 9, clock) for clock in CLOCKS]
+
+
+def whirling(high, wide, clock):
+    """A chart whose hours go once round its middle; a square just there is land."""
+    rows = []
+    for row in range(high):
+        around = [(2 * row - high + 1, 2 * column - wide + 1) for column in range(wide)]
+        rows.append(tuple(int((math.atan2(down, right) / math.tau + 1) * clock) % clock if (down, right) != (0, 0)
+                          else -1 for down, right in around))
+    return (clock, tuple(rows))
+
+
+@functools.cache
+def parted_by_definition(chart):
+    """For each side the two eyes that it parts, by their places, or None for the outside."""
+    place = {corner: at for at, (corners, _) in enumerate(eyes_by_definition(chart)) for corner in corners}
+    found = []
+    for (row, column), (below, _) in sides_by_definition(chart):
+        beyond = (row, column - 1) if below > row else (row - 1, column)
+        found.append((place.get((row, column)), place.get(beyond)))
+    return found
+
+
+def breaks_by_definition(chart, rows):
+    """The breaks of ages, sought number by number."""
+    found = []
+    for one, other in sides_by_definition(chart):
+        on = rows[other[0]][other[1]] - rows[one[0]][one[1]] - square_step(chart, one, other)
+        assert on % chart[0] == 0
+        if on:
+            found.append((one, other, on // chart[0]))
+    return found
+
+
+def hours_alone(chart):
+    """Ages without a tide more or less anywhere."""
+    return [[None if one < 0 else one for one in row] for row in chart[1]]
+
+
+def lifted(chart, rows, tides):
+    """Ages with tides more or less at some squares."""
+    found = [list(row) for row in rows]
+    for (row, column), many in tides.items():
+        found[row][column] += many * chart[0]
+    return found
+
+
+def at_their_hours(chart, rows):
+    """The same ages with whole tides more or less in each sea, so that its first square has its hour."""
+    found = [list(row) for row in rows]
+    for sea in seas_by_definition(chart):
+        first = sea[0]
+        off = chart[1][first[0]][first[1]] - rows[first[0]][first[1]]
+        for row, column in sea:
+            found[row][column] += off
+    return found
+
+
+@functools.cache
+def sea_by_definition(chart):
+    return [(r, c) for r, row in enumerate(chart[1]) for c, one in enumerate(row) if one != -1]
+
+
+@functools.cache
+def steps_by_definition(chart):
+    """The least steps over sea between all pairs of squares where one leads to the other, as they grow."""
+    squares = sea_by_definition(chart)
+    steps = {(square, square): 0 for square in squares}
+    fresh = list(steps)
+    while fresh:
+        grown = []
+        for one, (r, c) in fresh:
+            for other in ((r - 1, c), (r, c - 1), (r, c + 1), (r + 1, c)):
+                if other in squares and (one, other) not in steps:
+                    steps[(one, other)] = steps[(one, (r, c))] + 1
+                    grown.append((one, other))
+        fresh = grown
+    return steps
+
+
+def room_by_definition(chart, steps, one, other):
+    """The greatest number of tides that keeps within the steps."""
+    clock, rows = chart
+    most = steps[(one, other)] * ((clock - 1) // 2) - rows[other[0]][other[1]] + rows[one[0]][one[1]]
+    room = -20
+    while (room + 1) * clock <= most:
+        room += 1
+    assert room > -20
+    return room
+
+
+def is_bar_by_definition(chart, ring, steps):
+    told = told_by_definition(chart)
+    if len(ring) < 2 or not all(square in told for square in ring):
+        return False
+    pairs = pairs_round(ring)
+    return (all(pair in steps for pair in pairs)
+            and sum(room_by_definition(chart, steps, one, other) for one, other in pairs) < 0)
+
+
+def is_even_by_definition(chart):
+    return all(count == 0 for _, count in eyes_by_definition(chart))
+
+
+def with_hours(chart, hours):
+    """The chart with hours at some squares."""
+    rows = [list(row) for row in chart[1]]
+    for (row, column), hour in hours.items():
+        rows[row][column] = hour
+    return (chart[0], tuple(tuple(row) for row in rows))
