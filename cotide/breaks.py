@@ -71,7 +71,7 @@ def ways_from(pairs, tides, start):
     return (costs, moves)
 
 
-def send(pairs, tides, start, end):
+def send_tide(pairs, tides, start, end):
     """Add one tide on a way that weighs the least from the start to the end."""
     costs, moves = ways_from(pairs, tides, start)
     here = end
@@ -90,7 +90,7 @@ def least_tides(chart, pairs):
     for at, (some, count) in enumerate(eyes(chart)):
         start, end = (OUTSIDE, at) if count > 0 else (at, OUTSIDE)
         for again in range(abs(count)):
-            send(pairs, tides, start, end)
+            send_tide(pairs, tides, start, end)
     return tides
 
 

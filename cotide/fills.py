@@ -52,7 +52,7 @@ def near_rooms(chart):
     return found
 
 
-def lower(tides, ahead, rooms):
+def lower_once(tides, ahead, rooms):
     """Lower each square's tides to the room that others leave, once over; tell the last one lowered, or None."""
     last = None
     for square, other, some in rooms:
@@ -82,7 +82,7 @@ def settled(chart):
     last = None
     # Ways on which no square stands twice are all gone through by then; what is still lowered is so by a bar.
     for again in range(len(tides) + 1):
-        last = lower(tides, ahead, rooms)
+        last = lower_once(tides, ahead, rooms)
         if last is None:
             return (tides, None)
     return (None, ring_behind(ahead, last))

@@ -56,6 +56,11 @@ def imported_files(tree):
     return {node.module.partition(".")[2] for node in tree.body if isinstance(node, ast.ImportFrom)}
 
 
+def is_set(node):
+    return isinstance(node, (ast.Set, ast.SetComp)) or (
+        isinstance(node, ast.Call) and isinstance(node.func, ast.Name) and node.func.id == "set")
+
+
 class Form(unittest.TestCase):
     def test_folder_holds_files_of_the_package_alone(self):
         self.assertTrue((PACKAGE / "__init__.py").is_file())
@@ -156,6 +161,75 @@ class Form(unittest.TestCase):
                 if isinstance(node, ast.Raise) and node.exc is not None:
                     self.assertIsInstance(node.exc, ast.Call, name)
                     self.assertIsInstance(node.exc.func, ast.Name, name)
+
+    def test_module_level_holds_no_other_statements(self):
+        for name, tree in trees():
+            for node in tree.body[1:]:
+                self.assertIsInstance(node, (ast.ImportFrom, ast.Assign, ast.FunctionDef, ast.ClassDef), name)
+                if isinstance(node, ast.Assign):
+                    self.assertEqual(len(node.targets), 1, name)
+                    self.assertIsInstance(node.targets[0], ast.Name, name)
+                if isinstance(node, ast.ClassDef):
+                    for inner in node.body:
+                        self.assertIsInstance(inner, (ast.FunctionDef, ast.Expr), name)
+
+    def test_no_decorators_annotations_or_generators(self):
+        for name, tree in trees():
+            for node in ast.walk(tree):
+                self.assertNotIsInstance(node, (ast.GeneratorExp, ast.Yield, ast.YieldFrom, ast.AnnAssign), name)
+                if isinstance(node, (ast.FunctionDef, ast.ClassDef)):
+                    self.assertEqual(node.decorator_list, [], name)
+                if isinstance(node, ast.FunctionDef):
+                    self.assertIsNone(node.returns, name)
+                if isinstance(node, ast.arg):
+                    self.assertIsNone(node.annotation, name)
+
+    def test_handlers_name_own_errors(self):
+        own = {bound for name, tree in trees() if name == "errors.py" for bound in module_names(tree)}
+        for name, tree in trees():
+            for node in ast.walk(tree):
+                if isinstance(node, ast.ExceptHandler):
+                    some = node.type.elts if isinstance(node.type, ast.Tuple) else [node.type]
+                    self.assertLessEqual({one.id for one in some}, own, name)
+
+    def test_no_name_is_a_method_and_an_attribute(self):
+        methods, stored, read = set(), set(), set()
+        for _, tree in trees():
+            for node in ast.walk(tree):
+                if isinstance(node, ast.ClassDef):
+                    methods |= {inner.name for inner in node.body if isinstance(inner, ast.FunctionDef)}
+                if isinstance(node, ast.Attribute):
+                    (read if isinstance(node.ctx, ast.Load) else stored).add(node.attr)
+        self.assertEqual(methods & stored, set())
+        self.assertLessEqual(read, methods | stored | ALLOWED_METHODS)
+
+    def test_sets_are_not_added_to_where_a_class_has_add(self):
+        # Log.add takes the name, and logs compare, so lists are not sorted in place either.
+        for name, tree in trees():
+            for node in ast.walk(tree):
+                if isinstance(node, ast.Attribute):
+                    self.assertNotIn(node.attr, ("sort", "discard"), name)
+                if isinstance(node, ast.FunctionDef):
+                    sets = {target.id for inner in ast.walk(node) if isinstance(inner, ast.Assign)
+                            for target in inner.targets if isinstance(target, ast.Name) and is_set(inner.value)}
+                    for inner in ast.walk(node):
+                        if isinstance(inner, ast.Attribute) and isinstance(inner.value, ast.Name):
+                            self.assertNotIn(inner.value.id, sets, name)
+
+    def test_strings_within_f_strings(self):
+        for name, tree in trees():
+            for node in ast.walk(tree):
+                if isinstance(node, ast.FormattedValue):
+                    for inner in ast.walk(node.value):
+                        self.assertNotIsInstance(inner, (ast.Constant, ast.JoinedStr), name)
+
+    def test_methods_with_two_underscores(self):
+        for name, tree in trees():
+            for node in ast.walk(tree):
+                if isinstance(node, ast.FunctionDef) and node.name.startswith("__"):
+                    self.assertIn(node.name, ("__init__", "__eq__", "__len__", "__str__", "__repr__"), name)
+                    if node.name != "__init__":
+                        self.assertEqual([type(one) for one in node.body], [ast.Return], name)
 
 
 if __name__ == "__main__":

@@ -33,6 +33,7 @@ HANDED_A_CHART = {
     "breaks": ("least_breaks", "least_weight", "lays", "breaks_of", "prices", "hold", "worth"),
     "fills": ("fill", "can_fill", "bar", "is_bar", "may_be"),
     "patches": ("cut", "turned", "mirrored", "later", "laid_in"),
+    "pages": ("chart_text",),
 }
 
 
